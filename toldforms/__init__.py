@@ -1,0 +1,1 @@
+"""Numbers and dates by told forms: read, written, converted."""
