@@ -48,8 +48,28 @@ def dateof(n):
     return [7, n]
 
 
+def shift(i, n, text):
+    return [8, i, n] + row(text)
+
+
 def add(source, target):
     return [9] + row(source) + row(target)
+
+
+def take(i):
+    return [10, i]
+
+
+def pairs():
+    return [11]
+
+
+def least():
+    return [12]
+
+
+def apply(text):
+    return [13] + row(text)
 
 
 def outputs(text):
@@ -96,3 +116,8 @@ def ask_many(calls, at_once=90):
 def text_of(text):
     """The answer that is a text."""
     return [0] + coded(text)
+
+
+def given(count, text):
+    """A part of what outputs answers: how many pairs give a text, its length and its bytes."""
+    return [count, len(text)] + coded(text)

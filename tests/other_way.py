@@ -96,3 +96,32 @@ def write_date(form, year, month, day):
 def write(form, value):
     """A value, as the call read tells it, written in the form."""
     return write_number(form, *value[1:]) if value[0] == 0 else write_date(form, *value[1:])
+
+
+FORMS = list_of_forms()
+
+
+def convert(f, g, text):
+    """The text converted from form f into form g; None if that isn't possible."""
+    value = read(FORMS[f], text)
+    return None if value is None else write(FORMS[g], value)
+
+
+def pairs(examples):
+    """All pairs of forms that fit, each of them tried."""
+    found = []
+    for f in range(len(FORMS)):
+        if all(read(FORMS[f], source) is not None for source, target in examples):
+            found += [(f, g) for g in range(len(FORMS))
+                      if all(convert(f, g, source) == target for source, target in examples)]
+    return found
+
+
+def outputs(examples, text):
+    """The texts that the text is converted to, with how many pairs give each."""
+    counts = {}
+    for f, g in pairs(examples):
+        found = convert(f, g, text)
+        if found is not None:
+            counts[found] = counts.get(found, 0) + 1
+    return counts

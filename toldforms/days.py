@@ -37,6 +37,10 @@ def day_number(year, month, day):
     return number
 
 
+def is_day_number(number):
+    return 1 <= number <= LAST_DAY
+
+
 # The weekday of the day with this number, 0 for Monday.
 def weekday(number):
     return (number - 1) % 7

@@ -1,8 +1,8 @@
 """The calls on one object, and their answers."""
 
 from toldforms.date_form import DATE_KIND
-from toldforms.days import LAST_DAY, date_of_day, day_number, is_date, weekday
-from toldforms.examples import MOST_EXAMPLES, Example, fitting_pairs, may_be_example
+from toldforms.days import date_of_day, day_number, is_date, is_day_number, weekday
+from toldforms.examples import MOST_EXAMPLES, Example, fitting_pairs, fitting_targets, may_be_example
 from toldforms.form_list import all_forms, converted
 from toldforms.number_form import number_value
 
@@ -10,6 +10,7 @@ DONE = 0
 NOT_POSSIBLE = 1
 BAD_EXAMPLE = -1
 NO_SUCH_FORM = -2
+NO_SUCH_EXAMPLE = -2
 NO_SUCH_VALUE = -3
 TOO_MANY_EXAMPLES = -6
 NO_SUCH_DAY = -7
@@ -24,6 +25,20 @@ class Desk:
 
     def has_form(self, number):
         return 0 <= number < len(self.forms)
+
+    def has_example(self, number):
+        return 0 <= number < len(self.examples)
+
+    # Without examples every pair fits: these lists are then counted far sooner than the pairs are listed.
+    def targets_that_fit(self):
+        return fitting_targets(self.examples, len(self.forms))
+
+    def pairs_that_fit(self):
+        return fitting_pairs(self.examples, len(self.forms))
+
+    # The text converted by a pair of forms' numbers; None if that isn't possible.
+    def converted_by(self, pair, text):
+        return converted(self.forms[pair[0]], self.forms[pair[1]], text)
 
 
 # A list of calls, gone through from its beginning; it is only read.
@@ -107,9 +122,23 @@ def answer_day(desk, numbers, rows):
 
 
 def answer_dateof(desk, numbers, rows):
-    if numbers[0] < 1 or numbers[0] > LAST_DAY:
+    if not is_day_number(numbers[0]):
         return [NO_SUCH_DAY]
     return [DONE] + list(date_of_day(numbers[0]))
+
+
+def answer_shift(desk, numbers, rows):
+    if not desk.has_form(numbers[0]):
+        return [NO_SUCH_FORM]
+    form = desk.forms[numbers[0]]
+    value = form.value_read(rows[0])
+    # A text that is no date has no day that could be out of range, so this comes ahead of that refusal.
+    if value is None or value[0] != DATE_KIND:
+        return [NOT_POSSIBLE]
+    shifted = day_number(value[1], value[2], value[3]) + numbers[1]
+    if not is_day_number(shifted):
+        return [NO_SUCH_DAY]
+    return text_answer(form.written((DATE_KIND,) + date_of_day(shifted)))
 
 
 def answer_add(desk, numbers, rows):
@@ -121,13 +150,41 @@ def answer_add(desk, numbers, rows):
     return [DONE]
 
 
+def answer_take(desk, numbers, rows):
+    if not desk.has_example(numbers[0]):
+        return [NO_SUCH_EXAMPLE]
+    desk.examples.pop(numbers[0])
+    return [DONE]
+
+
+def answer_pairs(desk, numbers, rows):
+    return [DONE, sum([len(targets) for targets in desk.targets_that_fit()])]
+
+
+def answer_least(desk, numbers, rows):
+    for source, targets in enumerate(desk.targets_that_fit()):
+        if len(targets) > 0:
+            return [DONE, source, targets[0]]
+    return [NOT_POSSIBLE]
+
+
+def answer_apply(desk, numbers, rows):
+    if len(desk.examples) == 0:
+        return [NO_EXAMPLES]
+    for pair in desk.pairs_that_fit():
+        text = desk.converted_by(pair, rows[0])
+        if text is not None:
+            return text_answer(text)
+    return [NOT_POSSIBLE]
+
+
 def answer_outputs(desk, numbers, rows):
     if len(desk.examples) == 0:
         return [NO_EXAMPLES]
     # A dict keeps the order in which its keys came: that of the first pairs that give them.
     pair_counts = {}
-    for pair in fitting_pairs(desk.examples, len(desk.forms)):
-        text = converted(desk.forms[pair[0]], desk.forms[pair[1]], rows[0])
+    for pair in desk.pairs_that_fit():
+        text = desk.converted_by(pair, rows[0])
         if text is not None:
             pair_counts[tuple(text)] = pair_counts.get(tuple(text), 0) + 1
     answer = [len(pair_counts)]
@@ -136,10 +193,6 @@ def answer_outputs(desk, numbers, rows):
         answer.append(len(signs))
         answer.extend(signs)
     return answer
-
-
-def answer_not_built(desk, numbers, rows):
-    raise NotImplementedError("this call is not built yet")
 
 
 # By the calls' numbers: how many whole numbers a call has, how many rows, and what answers it.
@@ -152,12 +205,12 @@ CALLS = (
     (0, 1, answer_fits),
     (3, 0, answer_day),
     (1, 0, answer_dateof),
-    (2, 1, answer_not_built),
+    (2, 1, answer_shift),
     (0, 2, answer_add),
-    (1, 0, answer_not_built),
-    (0, 0, answer_not_built),
-    (0, 0, answer_not_built),
-    (0, 1, answer_not_built),
+    (1, 0, answer_take),
+    (0, 0, answer_pairs),
+    (0, 0, answer_least),
+    (0, 1, answer_apply),
     (0, 1, answer_outputs),
 )
 

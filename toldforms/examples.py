@@ -28,12 +28,20 @@ def forms_by_targets(examples, form_count):
     return found
 
 
-def fitting_pairs(examples, form_count):
+# For each form, in order, the forms with which it makes a pair that fits, in order.
+def fitting_targets(examples, form_count):
     # A text is what a value is written as just if it's read as this value, so equal values are all that is asked.
     by_targets = forms_by_targets(examples, form_count)
-    pairs = []
+    fitting = []
     for source in range(form_count):
         values = tuple([example.source_values[source] for example in examples])
-        if all([value is not None for value in values]):
-            pairs.extend([(source, target) for target in by_targets.get(values, [])])
+        is_read = all([value is not None for value in values])
+        fitting.append(by_targets.get(values, []) if is_read else [])
+    return fitting
+
+
+def fitting_pairs(examples, form_count):
+    pairs = []
+    for source, targets in enumerate(fitting_targets(examples, form_count)):
+        pairs.extend([(source, target) for target in targets])
     return pairs
